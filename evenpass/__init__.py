@@ -1,0 +1,1 @@
+"""Evenpass: nets of wickets that let walkers by turn about."""
