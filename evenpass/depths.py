@@ -35,3 +35,11 @@ def longest(net):
             way.append(number)
             wanted -= 1
     return list(reversed(way))
+
+
+def depth_power(net):
+    # 2 ** depth, the least number that halves at each wicket of every way without a remainder.
+    power = 1
+    for level in range(depth(net)):
+        power *= 2
+    return power

@@ -1,6 +1,8 @@
-"""Nets that several tests go through."""
+"""Nets and things that several tests go through, and reckonings by the document's words."""
 
 import itertools
+
+SIXTY = 10 ** 60 - 1
 
 LINE = (4, ((0, 1), (1, 2), (2, 3)))
 LEVELLER = (4, ((0, 1), (2, 3), (0, 3), (1, 2), (0, 1), (2, 3)))
@@ -29,3 +31,63 @@ def great_nets():
             wickets = tuple(choice[(stride * number * number + 5 * number) % len(choice)] for number in range(40))
             nets.append((wide, wickets))
     return nets
+
+
+def half_down(number):
+    """Half of a number, rounded down, without Python's own rounding below 0."""
+    half = abs(number) // 2
+    if number >= 0:
+        return half
+    return -half if number % 2 == 0 else -half - 1
+
+
+def by_the_words(net, counts):
+    now = list(counts)
+    odd = []
+    for number, (first, second) in enumerate(net[1]):
+        both = now[first] + now[second]
+        down = half_down(both)
+        now[first], now[second] = both - down, down
+        if abs(both) % 2 == 1:
+            odd.append(number)
+    return now, odd
+
+
+class Grudging:
+    """A thing that fails whatever it is asked."""
+
+    def fail(self, *rest):
+        raise RuntimeError("asked")
+
+    __eq__ = __ne__ = __lt__ = __le__ = __gt__ = __ge__ = fail
+    __len__ = __iter__ = __getitem__ = __bool__ = __contains__ = __index__ = __int__ = fail
+    __hash__ = __repr__ = __str__ = fail
+
+
+def within_itself():
+    thing = []
+    thing.append(thing)
+    return thing
+
+
+def deep_tuple(levels):
+    thing = ()
+    for level in range(levels):
+        thing = (2, thing)
+    return thing
+
+
+def layered_four(layers):
+    """All nets of four lanes with so many layers, each of two wickets."""
+    layer = []
+    for one, other in (((0, 1), (2, 3)), ((0, 2), (1, 3)), ((0, 3), (1, 2))):
+        for first in (one, one[::-1]):
+            for second in (other, other[::-1]):
+                layer.append((first, second))
+    return [(4, sum(wickets, ())) for wickets in itertools.product(layer, repeat=layers)]
+
+
+# What is no whole number, of whatever kind.
+NO_NUMBERS = (
+    True, False, None, "", "0", "1", "a", 0.0, 1.0, float("nan"), 1j, b"0", [], [0], (), (0,), (0, 1), {}, {0: 1},
+    set(), object(), int, len, range(3), Grudging(), within_itself(), deep_tuple(30))

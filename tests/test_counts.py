@@ -4,30 +4,9 @@ import itertools
 import unittest
 
 from evenpass.counts import exits, odd_ones
-from tests.samples import LEVELLER, LINE, great_nets, small_nets
+from tests.samples import LEVELLER, LINE, SIXTY, by_the_words, great_nets, small_nets
 
 ONE = (2, ((0, 1),))
-SIXTY = 10 ** 60 - 1
-
-
-def half_down(number):
-    """Half of a number, rounded down, without Python's own rounding below 0."""
-    half = abs(number) // 2
-    if number >= 0:
-        return half
-    return -half if number % 2 == 0 else -half - 1
-
-
-def by_the_words(net, counts):
-    now = list(counts)
-    odd = []
-    for number, (first, second) in enumerate(net[1]):
-        both = now[first] + now[second]
-        down = half_down(both)
-        now[first], now[second] = both - down, down
-        if abs(both) % 2 == 1:
-            odd.append(number)
-    return now, odd
 
 
 class CountsCase(unittest.TestCase):

@@ -5,32 +5,9 @@ import unittest
 
 from evenpass.errors import NoNet
 from evenpass.nets import is_net, net_of
+from tests.samples import Grudging, deep_tuple, within_itself
 
 Pair = collections.namedtuple("Pair", "first second")
-
-
-class Grudging:
-    """A thing that fails whatever it is asked."""
-
-    def fail(self, *rest):
-        raise RuntimeError("asked")
-
-    __eq__ = __ne__ = __lt__ = __le__ = __gt__ = __ge__ = fail
-    __len__ = __iter__ = __getitem__ = __bool__ = __contains__ = __index__ = __int__ = fail
-    __hash__ = __repr__ = __str__ = fail
-
-
-def within_itself():
-    thing = []
-    thing.append(thing)
-    return thing
-
-
-def deep_tuple(levels):
-    thing = ()
-    for level in range(levels):
-        thing = (2, thing)
-    return thing
 
 
 # No lane of a net of three lanes, of whatever kind.

@@ -6,14 +6,21 @@ import unittest
 from evenpass.counts import exits, odd_ones
 from evenpass.depths import depth, layers, longest
 from evenpass.errors import NoNet
+from evenpass.level import is_level, level_counts
 from evenpass.nets import is_net, net_of
+from evenpass.shares import shares, tilts, uneven
+from evenpass.verdict import levels
 from tests.samples import LEVELLER, LINE, TWISTED
 
 
 def spoil(told):
-    told.reverse()
-    told.append("spoilt")
-    told[0] = None
+    for thing in told:
+        if isinstance(thing, (list, tuple)):
+            spoil(thing)
+    if isinstance(told, list):
+        told.reverse()
+        told.append("spoilt")
+        told[0] = None
 
 
 class HandedIn(unittest.TestCase):
@@ -49,19 +56,24 @@ class HandedIn(unittest.TestCase):
                     self.check_unchanged(call, net, [7, -2, 0, 3])
 
     def test_nets_stay(self):
-        for call in (layers, depth, longest):
+        for call in (layers, depth, longest, shares, tilts, uneven, levels):
             with self.subTest(call=call.__name__):
                 self.check_unchanged(call, TWISTED)
+                self.check_unchanged(call, LEVELLER)
+
+    def test_counts_that_may_be_level_stay(self):
+        for counts in ([2, 1, 1], [0, 1], [3, 3, 1], [5]):
+            with self.subTest(counts=counts):
+                self.check_unchanged(is_level, counts)
 
 
 class Told(unittest.TestCase):
     def check_own(self, call, *handed):
         first = call(*handed)
-        kept = list(first)
+        kept = copy.deepcopy(first)
         spoil(first)
         again = call(*handed)
         self.assertEqual(again, kept)
-        self.assertIsNot(again, first)
         spoil(again)
         self.assertEqual(call(*handed), kept)
 
@@ -77,6 +89,26 @@ class Told(unittest.TestCase):
             for call in (exits, odd_ones):
                 with self.subTest(call=call.__name__, net=net):
                     self.check_own(call, net, [7, -2, 0, 3])
+
+    def test_lists_of_shares(self):
+        for net in (LINE, LEVELLER, TWISTED, (3, ()), (2, ((0, 1),))):
+            for call in (shares, tilts):
+                with self.subTest(call=call.__name__, net=net):
+                    self.check_own(call, net)
+
+    def test_the_rows_within_a_list_are_not_the_same_one(self):
+        for told in (shares(LEVELLER), tilts(LEVELLER)):
+            told[0][0] = "spoilt"
+            self.assertNotIn("spoilt", sum(told[1:], []))
+
+    def test_level_counts(self):
+        self.check_own(level_counts, 4, 7)
+        self.check_own(level_counts, 1, -1)
+
+    def test_counts_of_a_verdict(self):
+        for net in (LINE, TWISTED, (2, ()), (2, ((1, 0),)), (4, LEVELLER[1] + ((1, 0), (3, 2)))):
+            with self.subTest(net=net):
+                self.check_own(levels, net)
 
     def test_exits_without_wickets_are_not_the_counts_themselves(self):
         counts = [1, 2, 3]
@@ -123,3 +155,11 @@ class ChangedBehindACall(unittest.TestCase):
                 self.assertEqual(told, kept)
                 self.assertEqual(call(LEVELLER, [5, 0, 0, 2]), kept)
                 self.assertEqual(call(LEVELLER, counts), call(LEVELLER, [100, 0, 0, -1]))
+
+    def test_counts_that_were_level(self):
+        counts = [2, 1, 1]
+        self.assertIs(is_level(counts), True)
+        counts[2] = 2
+        self.assertIs(is_level(counts), False)
+        counts[1] = 2
+        self.assertIs(is_level(counts), True)
