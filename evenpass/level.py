@@ -1,12 +1,11 @@
 """Counts that are as even as whole numbers can be."""
 
+from evenpass.order import falls
+
 
 def is_level(counts):
-    for ahead, count in zip(counts, counts[1:]):
-        if count > ahead:
-            return False
     # Of no counts at all there is no first one to look at.
-    return not counts or counts[0] - counts[-1] <= 1
+    return falls(counts) and (not counts or counts[0] - counts[-1] <= 1)
 
 
 def level_counts(wide, total):

@@ -3,11 +3,15 @@
 import copy
 import unittest
 
+from evenpass.built import brick, folded, rounds
 from evenpass.counts import exits, odd_ones
 from evenpass.depths import depth, layers, longest
 from evenpass.errors import NoNet
+from evenpass.far import bound, spread
 from evenpass.level import is_level, level_counts
 from evenpass.nets import is_net, net_of
+from evenpass.order import falls, orders, put_in_order
+from evenpass.papers import shows
 from evenpass.shares import shares, tilts, uneven
 from evenpass.verdict import levels
 from tests.samples import LEVELLER, LINE, TWISTED
@@ -56,7 +60,7 @@ class HandedIn(unittest.TestCase):
                     self.check_unchanged(call, net, [7, -2, 0, 3])
 
     def test_nets_stay(self):
-        for call in (layers, depth, longest, shares, tilts, uneven, levels):
+        for call in (layers, depth, longest, shares, tilts, uneven, levels, orders, bound, spread):
             with self.subTest(call=call.__name__):
                 self.check_unchanged(call, TWISTED)
                 self.check_unchanged(call, LEVELLER)
@@ -65,6 +69,19 @@ class HandedIn(unittest.TestCase):
         for counts in ([2, 1, 1], [0, 1], [3, 3, 1], [5]):
             with self.subTest(counts=counts):
                 self.check_unchanged(is_level, counts)
+                self.check_unchanged(falls, counts)
+
+    def test_values_stay(self):
+        for net in (LINE, LEVELLER, (4, ())):
+            with self.subTest(net=net):
+                self.check_unchanged(put_in_order, net, [3, -1, 9, 9])
+
+    def test_papers_stay_with_the_lists_within(self):
+        for paper in (
+                folded(4)[1], ("halves", 2, [0, 1], [2, 3], ["all"], ["all"]), ["halves", 2, [[1], [0]]],
+                ("halves", [2], (0, [1]), ([3], 2), ("all", [1]), {"one": [1]}), [["one"]]):
+            with self.subTest(paper=paper):
+                self.check_unchanged(shows, LEVELLER, paper)
 
 
 class Told(unittest.TestCase):
@@ -109,6 +126,24 @@ class Told(unittest.TestCase):
         for net in (LINE, TWISTED, (2, ()), (2, ((1, 0),)), (4, LEVELLER[1] + ((1, 0), (3, 2)))):
             with self.subTest(net=net):
                 self.check_own(levels, net)
+
+    def test_bits_and_counts_of_verdicts(self):
+        for net in (LINE, TWISTED, (2, ()), (2, ((1, 0),)), (4, ((0, 1), (2, 3), (0, 2), (1, 3)))):
+            with self.subTest(net=net):
+                self.check_own(orders, net)
+                self.check_own(spread, net)
+
+    def test_values_put_in_order(self):
+        for net in (LINE, LEVELLER, (4, ())):
+            with self.subTest(net=net):
+                self.check_own(put_in_order, net, [3, -1, 9, 9])
+
+    def test_built_nets_and_papers_hold_nothing_that_can_be_changed(self):
+        for wide in (1, 2, 4, 8):
+            for told in (folded(wide), rounds(wide), brick(wide)):
+                with self.subTest(wide=wide):
+                    hash(told)
+                    self.assertNotIn("[", repr(told))
 
     def test_exits_without_wickets_are_not_the_counts_themselves(self):
         counts = [1, 2, 3]
@@ -163,3 +198,27 @@ class ChangedBehindACall(unittest.TestCase):
         self.assertIs(is_level(counts), False)
         counts[1] = 2
         self.assertIs(is_level(counts), True)
+
+    def test_values(self):
+        values = [1, 2, 3, 4]
+        told = put_in_order(LEVELLER, values)
+        values[0] = 100
+        self.assertEqual(told, [4, 3, 2, 1])
+        self.assertEqual(put_in_order(LEVELLER, values), [100, 4, 3, 2])
+        told = put_in_order((4, ()), values)
+        values.reverse()
+        self.assertEqual(told, [100, 2, 3, 4])
+
+    def test_values_that_fell(self):
+        values = [2, 1]
+        self.assertIs(falls(values), True)
+        values[1] = 3
+        self.assertIs(falls(values), False)
+
+    def test_a_list_within_a_paper(self):
+        inner = [0, 1]
+        paper = ("halves", 2, inner, (2, 3), ("all",), ("all",))
+        self.assertIs(shows(LEVELLER, paper), False)
+        inner.clear()
+        self.assertIs(shows(LEVELLER, paper), False)
+        self.assertIs(shows(LEVELLER, ("halves", 2, (0, 1), (2, 3), ("all",), ("all",))), True)

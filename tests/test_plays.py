@@ -130,7 +130,8 @@ class Begins(PlayCase):
 
     def test_the_wicket_of_the_least_number_that_has_the_lane(self):
         play = Play((5, ((0, 1), (2, 1), (2, 3), (3, 0))))
-        for lane, wanted in enumerate([("before", 0, 0), ("before", 0, 1), ("before", 1, 2), ("before", 2, 3), ("exit", 4)]):
+        places = [("before", 0, 0), ("before", 0, 1), ("before", 1, 2), ("before", 2, 3), ("exit", 4)]
+        for lane, wanted in enumerate(places):
             self.check_place(play.where(play.enter(lane)), wanted)
             self.check_place(play.where(play.enter_back(lane)), wanted)
 

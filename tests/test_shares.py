@@ -139,7 +139,8 @@ class Uneven(SharesCase):
 
     def test_the_first_lane_with_unlike_shares(self):
         self.check_told((2, ((0, 1),)), None)
-        self.check_told((8, ((0, 1), (2, 3), (4, 5), (6, 7), (0, 2), (1, 3), (0, 4), (1, 5), (2, 6), (3, 7))), (4, 0, 2))
+        wickets = ((0, 1), (2, 3), (4, 5), (6, 7), (0, 2), (1, 3), (0, 4), (1, 5), (2, 6), (3, 7))
+        self.check_told((8, wickets), (4, 0, 2))
 
     def test_the_first_two_lanes_of_unlike_shares(self):
         self.check_told(LINE, (0, 0, 1))
