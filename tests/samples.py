@@ -91,3 +91,13 @@ def layered_four(layers):
 NO_NUMBERS = (
     True, False, None, "", "0", "1", "a", 0.0, 1.0, float("nan"), 1j, b"0", [], [0], (), (0,), (0, 1), {}, {0: 1},
     set(), object(), int, len, range(3), Grudging(), within_itself(), deep_tuple(30))
+
+
+def drawn_net(drawn, wide, most):
+    """A net of so many lanes with at most so many wickets, drawn from a seeded source."""
+    size = drawn.randint(0, most) if wide > 1 else 0
+    return (wide, tuple(tuple(drawn.sample(range(wide), 2)) for number in range(size)))
+
+
+def drawn_counts(drawn, wide, most):
+    return [drawn.randint(-most, most) for lane in range(wide)]

@@ -3,16 +3,20 @@
 import copy
 import unittest
 
+from evenpass.alike import parted
 from evenpass.built import brick, folded, rounds
 from evenpass.counts import exits, odd_ones
 from evenpass.depths import depth, layers, longest
-from evenpass.errors import NoNet
+from evenpass.desk import Desk
+from evenpass.errors import NetError, NoNet
 from evenpass.far import bound, spread
+from evenpass.joins import behind, beside, called, mirrored, slimmed
 from evenpass.level import is_level, level_counts
 from evenpass.nets import is_net, net_of
 from evenpass.order import falls, orders, put_in_order
 from evenpass.papers import shows
 from evenpass.shares import shares, tilts, uneven
+from evenpass.texts import read_net, show_net
 from evenpass.verdict import levels
 from tests.samples import LEVELLER, LINE, TWISTED
 
@@ -83,6 +87,29 @@ class HandedIn(unittest.TestCase):
             with self.subTest(paper=paper):
                 self.check_unchanged(shows, LEVELLER, paper)
 
+    def test_nets_that_are_put_together_stay(self):
+        for call in (behind, beside, parted):
+            with self.subTest(call=call.__name__):
+                self.check_unchanged(call, LINE, LEVELLER)
+                self.check_unchanged(call, LEVELLER, LEVELLER)
+        for call in (mirrored, slimmed, show_net):
+            for net in (TWISTED, LEVELLER, (4, LINE[1] + LINE[1][-1:])):
+                with self.subTest(call=call.__name__, net=net):
+                    self.check_unchanged(call, net)
+
+    def test_an_order_stays(self):
+        for order in ([0, 1, 2, 3], [3, 2, 1, 0], [1, 3, 0, 2]):
+            with self.subTest(order=order):
+                self.check_unchanged(called, LEVELLER, order)
+
+    def test_refused_texts_and_rows_stay_with_the_lists_within(self):
+        for thing in (["4: 0-1", ["net"]], {"4:": [1]}, ("show", ["a"])):
+            kept = copy.deepcopy(thing)
+            for call in (read_net, Desk().say):
+                with self.assertRaises(NetError):
+                    call(thing)
+                self.assertEqual(thing, kept)
+
 
 class Told(unittest.TestCase):
     def check_own(self, call, *handed):
@@ -144,6 +171,19 @@ class Told(unittest.TestCase):
                 with self.subTest(wide=wide):
                     hash(told)
                     self.assertNotIn("[", repr(told))
+
+    def test_nets_put_together_or_read_hold_nothing_that_can_be_changed(self):
+        for told in (
+                behind(LINE, LEVELLER), beside(LINE, LEVELLER), called(LINE, [3, 1, 0, 2]), mirrored(LINE),
+                slimmed((4, LINE[1] * 2)), read_net("4: 0-1 1-2")):
+            with self.subTest(told=told):
+                hash(told)
+                self.assertNotIn("[", repr(told))
+
+    def test_counts_that_part_two_nets(self):
+        for one, other in ((LINE, LEVELLER), ((2, ((0, 1),)), (2, ((1, 0),))), ((8, ()), TWISTED)):
+            with self.subTest(one=one, other=other):
+                self.check_own(parted, one, other)
 
     def test_exits_without_wickets_are_not_the_counts_themselves(self):
         counts = [1, 2, 3]
@@ -222,3 +262,12 @@ class ChangedBehindACall(unittest.TestCase):
         inner.clear()
         self.assertIs(shows(LEVELLER, paper), False)
         self.assertIs(shows(LEVELLER, ("halves", 2, (0, 1), (2, 3), ("all",), ("all",))), True)
+
+    def test_an_order(self):
+        order = [3, 1, 0, 2]
+        told = called(LINE, order)
+        order[0] = 1
+        order.reverse()
+        self.assertEqual(told, (4, ((3, 1), (1, 0), (0, 2))))
+        self.assertEqual(called(LINE, [3, 1, 0, 2]), told)
+        self.assertEqual(called(LINE, [0, 1, 2, 3]), LINE)
